@@ -1,0 +1,1 @@
+"""Ringproofs: charts whose leaves may go back to an earlier line."""

@@ -1,0 +1,4 @@
+"""The constants of the program."""
+
+SIZE = 3
+SHELF = 8
