@@ -25,19 +25,28 @@ def atom_in(text):
     return atom
 
 
+def atoms_text(atoms):
+    """The text of some ATOMs, parted by a comma and a blank."""
+    return ", ".join([atom_text(atom) for atom in atoms])
+
+
+def atoms_or_nones(text):
+    """The tuple of the ATOMs whose text it is, None in the place of each that is none."""
+    return tuple([atom_or_none(part) for part in text.split(", ")])
+
+
 def rule_text(rule):
     """The text of a RULE."""
     head, body = rule
     if not body:
         return atom_text(head)
-    atoms = ", ".join([atom_text(atom) for atom in body])
-    return f"{atom_text(head)} if {atoms}"
+    return f"{atom_text(head)} if {atoms_text(body)}"
 
 
 def rule_or_none(text):
     """The RULE whose text it is, else None."""
     head, parting, atoms = text.partition(" if ")
-    body = tuple([atom_or_none(atom) for atom in atoms.split(", ")]) if parting else ()
+    body = atoms_or_nones(atoms) if parting else ()
     rule = (atom_or_none(head), body)
     return rule if is_rule(rule) else None
 

@@ -12,6 +12,11 @@ def is_number(thing):
     return isinstance(thing, int) and not isinstance(thing, bool)
 
 
+def is_place(thing):
+    """Whether a thing is a number from 0."""
+    return is_number(thing) and thing >= 0
+
+
 def is_variable(thing):
     """Whether a thing is a variable."""
     return is_number(thing) and 0 <= thing <= LAST_VARIABLE

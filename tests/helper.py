@@ -1,10 +1,27 @@
 """What the tests share."""
 
 import unittest
+from copy import deepcopy
 
+from ringproofs.deftexts import definitions_in
 from ringproofs.errors import RingError
 
 NOUGHT = ("0",)
+NAT = "nat 0\nnat s(x0) if nat x0"
+EVEN = "even 0\neven s(x0) if odd x0\nodd s(x0) if even x0"
+LESS = "less 0 s(x0)\nless s(x0) s(x1) if less x0 x1"
+# Six words and eight rules that lead round.
+ROUND = "\n".join(["a x0 if b x0", "b x0 if c x0", "c x0 if d x0", "d x0 if e x0", "e x0 if g x0", "g s(x0) if a x0",
+                   "g x0 if a x0", "a 0"])
+NUMBERS = definitions_in("\n".join([NAT, EVEN, LESS]))
+
+
+def lists_in(told):
+    """All lists in what was told, itself too."""
+    found = [told] if isinstance(told, list) else []
+    if isinstance(told, (list, tuple)):
+        found.extend(each for part in told for each in lists_in(part))
+    return found
 
 
 def steps(many, term=NOUGHT):
@@ -75,12 +92,15 @@ class Case(unittest.TestCase):
         self.assertIs(type(caught.exception), kind)
         self.told(caught.exception.what, what)
 
-    def asked_twice(self, call, *handed):
-        """That a told list may be changed without changing what is told next."""
-        first = call(*handed)
-        kept = list(first)
-        first.append("more")
-        first.reverse()
-        second = call(*handed)
+    def asked_twice(self, call, *handed, **named):
+        """That no two told lists are one, and all may be changed without changing what is told next."""
+        first = call(*handed, **named)
+        kept = deepcopy(first)
+        ahead = lists_in(first)
+        self.assertEqual(len(ahead), len({id(each) for each in ahead}))
+        for each in ahead:
+            each.append("more")
+            each.reverse()
+        second = call(*handed, **named)
         self.told(second, kept)
-        self.assertIsNot(first, second)
+        self.assertFalse({id(each) for each in ahead} & {id(each) for each in lists_in(second)})

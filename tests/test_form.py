@@ -24,6 +24,20 @@ INTERFACE = {
     "definitions": {"Definitions": ["rules"]},
     "deftexts": {"definitions_text": ["defs"], "definitions_in": ["text"]},
     "heights": {"height": ["defs", "atom"], "derivation": ["defs", "atom"], "is_derivation": ["defs", "atom", "thing"]},
+    "worlds": {"holds": ["defs", "atom"], "bars": ["defs", "saying", "world"], "worlds": ["saying", "most"],
+               "first_world": ["defs", "saying", "most"]},
+    "sayings": {"is_saying": ["thing"], "saying_variables": ["saying"], "saying_put": ["saying", "binding"],
+                "comes_of": ["saying", "other", "binding"], "bindings": ["saying", "other"]},
+    "sayingtexts": {"saying_text": ["saying"], "saying_in": ["text"]},
+    "steps": {"is_step": ["thing"]},
+    "premises": {"premises": ["defs", "saying", "step"]},
+    "charts": {"is_chart": ["thing"], "lines": ["defs", "chart", "*", "known"], "is_right": ["defs", "chart", "*", "known"],
+               "leaned": ["chart"], "goals": ["chart"]},
+    "charttexts": {"chart_text": ["chart"], "chart_in": ["text"]},
+    "leaps": {"together": ["links", "others"], "leaps": ["defs", "chart", "*", "known"]},
+    "papers": {"rings": ["defs", "chart", "*", "known"], "shows_falls": ["defs", "chart", "thing", "*", "known"]},
+    "rounds": {"shows_round": ["defs", "chart", "thing", "*", "known"], "judged": ["defs", "chart", "*", "known"],
+               "is_let_by": ["defs", "chart", "*", "known"]},
 }
 METHODS = {
     ("definitions", "Definitions"): {"tell": ["rule"], "rules": ["word"], "words": [], "terms": ["word"], "all_rules": [],
@@ -43,6 +57,7 @@ NO_WORDS = set("""type typing typing_extensions enum Enum IntEnum StrEnum Flag I
 NO_NAMES = set("""register mro elements open input law version_info with_traceback add_note attrgetter breakpoint compile
     copyright credits delattr dir eval exec exit gc getattr globals hasattr help id importlib license locals methodcaller
     os quit setattr super type vars sys""".split())
+AT_ONCE = ("list", "tuple", "dict", "sorted", "sum", "any", "all", "enumerate", "zip")
 NO_NODES = (ast.GeneratorExp, ast.AsyncFunctionDef, ast.Await, ast.Global, ast.Div, ast.Yield, ast.YieldFrom, ast.Match)
 
 
@@ -131,6 +146,19 @@ class Statements(unittest.TestCase):
                     above = parents[node]
                     self.assertTrue(isinstance(above, ast.Call) and above.func.id in ("sorted", "len"), (path.name, node.lineno))
 
+    def test_iterated_at_once(self):
+        for path in files():
+            parents = {child: node for node in ast.walk(tree_of(path)) for child in ast.iter_child_nodes(node)}
+            for node, above in parents.items():
+                if not isinstance(node, ast.Call):
+                    continue
+                name = getattr(node.func, "id", getattr(node.func, "attr", None))
+                if name not in ("zip", "enumerate", "reversed", "range", "items", "keys", "values"):
+                    continue
+                at_once = isinstance(above, (ast.For, ast.comprehension)) and above.iter is node
+                called = isinstance(above, ast.Call) and getattr(above.func, "id", None) in AT_ONCE and above.args[0] is node
+                self.assertTrue(at_once or called, (path.name, node.lineno))
+
     def test_nothing_calls_itself(self):
         for path in files():
             calls = {node.name: {inner.func.id for inner in ast.walk(node)
@@ -194,7 +222,23 @@ class Names(unittest.TestCase):
 
 class Interface(unittest.TestCase):
     def handed(self, thing):
-        return [name for name in inspect.signature(thing).parameters if name != "self"]
+        """The names of the arguments, a * ahead of those that are handed in by names alone."""
+        found = []
+        for name, told in inspect.signature(thing).parameters.items():
+            if told.kind == inspect.Parameter.KEYWORD_ONLY and "*" not in found:
+                found.append("*")
+            found.append(name)
+        return [name for name in found if name != "self"]
+
+    def test_what_may_be_left_out(self):
+        for stem, names in INTERFACE.items():
+            for name, wanted in names.items():
+                if wanted is not None and name != "Definitions":
+                    told = inspect.signature(getattr(import_module("ringproofs." + stem), name)).parameters
+                    left_out = [each for each, parameter in told.items() if parameter.default is not inspect.Parameter.empty]
+                    self.assertEqual(left_out, ["known"] if "known" in told else [], name)
+                    if left_out:
+                        self.assertEqual(told["known"].default, ())
 
     def test_functions_and_classes(self):
         for stem, names in INTERFACE.items():

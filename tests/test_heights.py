@@ -1,6 +1,6 @@
 import unittest
 
-from helper import GREAT_TERMS, NOUGHT, Case, left_comb, odd_things, steps, wide
+from helper import GREAT_TERMS, NAT, NOUGHT, NUMBERS, ROUND, Case, left_comb, odd_things, steps, wide
 from plainly import all_heights, drawn_definitions, plain_derivation
 from ringproofs.definitions import Definitions
 from ringproofs.deftexts import definitions_in
@@ -8,13 +8,8 @@ from ringproofs.heights import derivation, height, is_derivation
 from ringproofs.ruletexts import atom_in
 from ringproofs.trees import trees
 
-NAT = "nat 0\nnat s(x0) if nat x0"
-EVEN = "even 0\neven s(x0) if odd x0\nodd s(x0) if even x0"
-LESS = "less 0 s(x0)\nless s(x0) s(x1) if less x0 x1"
 TREE = "tree 0\ntree f(x0,x1) if tree x0, tree x1"
-ALL = definitions_in("\n".join([NAT, EVEN, LESS]))
-ROUND = "\n".join(["a x0 if b x0", "b x0 if c x0", "c x0 if d x0", "d x0 if e x0", "e x0 if g x0", "g s(x0) if a x0",
-                   "g x0 if a x0", "a 0"])
+ALL = NUMBERS
 
 
 class Height(Case):
