@@ -8,6 +8,10 @@ class RingError(ValueError):
         ValueError.__init__(self, what)
         self.what = what
 
+    def told_as(self):
+        """The name of the refusal's class."""
+        return self.__class__.__name__
+
 
 class BadText(RingError):
     """A text that nothing of its kind has."""

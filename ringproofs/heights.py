@@ -76,18 +76,48 @@ def _heights(bodies):
     return heights
 
 
-def height(defs, atom):
-    """The height of a closed ATOM, None where it doesn't hold."""
-    numbered = Numbered()
-    goal = numbered.key(atom)
-    return _heights(_all_bodies(defs, goal, numbered)).get(goal)
-
-
 def _gives(body, heights, wanted):
     """Whether an ATOM is of this height by this body."""
     if not all([key in heights for key in body]):
         return False
     return wanted == 1 + max([heights[key] for key in body], default=0)
+
+
+def _first_place(key, bodies, heights):
+    """The place of the first rule by which an ATOM that holds is of its height."""
+    return [k for k, body in bodies[key].items() if _gives(body, heights, heights[key])][0]
+
+
+class Heights:
+    """Heights of many closed ATOMs by the same Definitions: what one of them needed isn't looked for again."""
+
+    def __init__(self, defs):
+        self._defs = defs
+        self._numbered = Numbered()
+        self._bodies = {}
+        self._found = {}
+
+    def _key(self, atom):
+        """The ATOM's key, its height and those of all that it may need being found."""
+        key = self._numbered.key(atom)
+        if key not in self._bodies:
+            bodies = _all_bodies(self._defs, key, self._numbered)
+            self._bodies.update(bodies)
+            self._found.update(_heights(bodies))
+        return key
+
+    def height_of(self, atom):
+        """The height of a closed ATOM, None where it doesn't hold."""
+        return self._found.get(self._key(atom))
+
+    def place_of(self, atom):
+        """The place of the rule by which a closed ATOM that holds stands in its derivation."""
+        return _first_place(self._key(atom), self._bodies, self._found)
+
+
+def height(defs, atom):
+    """The height of a closed ATOM, None where it doesn't hold."""
+    return Heights(defs).height_of(atom)
 
 
 def _needed(goal, bodies, heights):
@@ -97,9 +127,8 @@ def _needed(goal, bodies, heights):
     while todo:
         key = todo.pop()
         if key not in found:
-            places = [k for k, body in bodies[key].items() if _gives(body, heights, heights[key])]
-            found[key] = places[0]
-            todo.extend(bodies[key][places[0]])
+            found[key] = _first_place(key, bodies, heights)
+            todo.extend(bodies[key][found[key]])
     return found
 
 

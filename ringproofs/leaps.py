@@ -12,7 +12,7 @@ def together(links, others):
     return greatest(found)
 
 
-def _hops(defs, told):
+def hops_in(defs, told):
     """By each line but the first: the line above it, and the links from that one to it."""
     found = {}
     for above, (saying, step, places) in enumerate(told):
@@ -21,7 +21,7 @@ def _hops(defs, told):
     return found
 
 
-def _ways_upward(line, links, hops):
+def ways_upward(line, links, hops):
     """A line and all above it, each with the links of the way from it down to this line, and on by these links."""
     found = [(line, links)]
     while line in hops:
@@ -35,13 +35,13 @@ def leaps_by_backs(defs, chart, known):
     """By each (line of goals, line of back that is it, or beneath it): the line it goes back to, and the links."""
     told = lines(defs, chart, known=known)
     wanted = goals(chart)
-    hops = _hops(defs, told)
+    hops = hops_in(defs, told)
     found = {}
     for back, (saying, step, _) in enumerate(told):
         if step[0] == "back":
             _, other, binding = step
             links = handed_on(saying, told[other][0], binding)
-            for line, way in _ways_upward(back, links, hops):
+            for line, way in ways_upward(back, links, hops):
                 if line in wanted:
                     found[(line, back)] = (other, way)
     return found

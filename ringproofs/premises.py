@@ -20,7 +20,7 @@ def handed_on(saying, other, binding):
     return [(place, k, 0) for place, hyp in enumerate(saying[0]) for k, atom in enumerate(others) if atom == hyp]
 
 
-def _kept(saying):
+def kept(saying):
     """The links by which each hyp stays at its place."""
     return [(place, place, 0) for place in range(len(saying[0]))]
 
@@ -43,7 +43,7 @@ def _use(defs, saying, step):
     fitting = fits(rule, goal, saying)
     if fitting is None or fitting[0]:
         return None
-    return [((hyps, atom_put(atom, fitting[1])), _kept(saying)) for atom in rule[1]]
+    return [((hyps, atom_put(atom, fitting[1])), kept(saying)) for atom in rule[1]]
 
 
 def _split_by(saying, k, rule, fitting):
@@ -83,7 +83,7 @@ def _cut(defs, saying, step):
     known = saying_variables(saying)
     if not all([variable in known for variable in atom_variables(atom)]):
         return None
-    return [((hyps, atom), _kept(saying)), ((unlike([*hyps, atom]), goal), _kept(saying))]
+    return [((hyps, atom), kept(saying)), ((unlike([*hyps, atom]), goal), kept(saying))]
 
 
 def _as(defs, saying, step):

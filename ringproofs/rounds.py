@@ -1,6 +1,7 @@
 """Rounds: ways round and round a chart on which nothing falls for ever."""
 
 from ringproofs.charts import is_right
+from ringproofs.errors import NotLetBy
 from ringproofs.leaps import by_key, leaps_by_backs, together
 from ringproofs.papers import all_rings, never_falls
 from ringproofs.terms import is_number
@@ -52,3 +53,10 @@ def judged(defs, chart, *, known=()):
 def is_let_by(defs, chart, *, known=()):
     """Whether a thing is a right CHART of which all rings fall."""
     return is_right(defs, chart, known=known) and judged(defs, chart, known=known)[0] == "falls"
+
+
+def has_to_be_let_by(defs, chart, known):
+    """Refuses a CHART that isn't: BadChart(line), NotLetBy(round)."""
+    word, shown = judged(defs, chart, known=known)
+    if word == "round":
+        raise NotLetBy(shown)

@@ -3,12 +3,20 @@
 from ringproofs.heights import height
 from ringproofs.rules import atom_put
 from ringproofs.sayings import saying_variables
+from ringproofs.terms import is_closed
 from ringproofs.trees import trees
 
 
 def holds(defs, atom):
     """Whether a closed ATOM holds."""
     return height(defs, atom) is not None
+
+
+def is_world(saying, binding):
+    """Whether a BINDING is a WORLD of the saying."""
+    if [variable for variable, _ in binding] != saying_variables(saying):
+        return False
+    return all([is_closed(term) for _, term in binding])
 
 
 def bars(defs, saying, world):

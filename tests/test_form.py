@@ -38,7 +38,14 @@ INTERFACE = {
     "papers": {"rings": ["defs", "chart", "*", "known"], "shows_falls": ["defs", "chart", "thing", "*", "known"]},
     "rounds": {"shows_round": ["defs", "chart", "thing", "*", "known"], "judged": ["defs", "chart", "*", "known"],
                "is_let_by": ["defs", "chart", "*", "known"]},
+    "walks": {"walked": ["defs", "chart", "world"]},
+    "trails": {"shows_trail": ["defs", "chart", "world", "thing"], "longest": ["defs", "chart", "most"]},
+    "stepped": {"is_stepped": ["defs", "chart", "places", "*", "known"], "stepped": ["defs", "chart", "*", "known"]},
+    "straight": {"straight": ["defs", "chart", "*", "known"], "is_straight": ["chart_lines"]},
+    "search": {"search": ["defs", "saying", "most", "*", "size"], "tries": ["defs", "saying", "done"]},
 }
+OBJECTS = ("Definitions", "Shelf")
+LEFT_OUT = {"known": (), "size": 3}
 METHODS = {
     ("definitions", "Definitions"): {"tell": ["rule"], "rules": ["word"], "words": [], "terms": ["word"], "all_rules": [],
                                      "without": ["place"], "twin": [], "__eq__": None},
@@ -233,12 +240,11 @@ class Interface(unittest.TestCase):
     def test_what_may_be_left_out(self):
         for stem, names in INTERFACE.items():
             for name, wanted in names.items():
-                if wanted is not None and name != "Definitions":
+                if wanted is not None and name not in OBJECTS:
                     told = inspect.signature(getattr(import_module("ringproofs." + stem), name)).parameters
-                    left_out = [each for each, parameter in told.items() if parameter.default is not inspect.Parameter.empty]
-                    self.assertEqual(left_out, ["known"] if "known" in told else [], name)
-                    if left_out:
-                        self.assertEqual(told["known"].default, ())
+                    left_out = {each: parameter.default for each, parameter in told.items()
+                                if parameter.default is not inspect.Parameter.empty}
+                    self.assertEqual(left_out, {each: LEFT_OUT[each] for each in told if each in LEFT_OUT}, name)
 
     def test_functions_and_classes(self):
         for stem, names in INTERFACE.items():
