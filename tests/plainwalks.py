@@ -2,7 +2,7 @@
 
 from itertools import product
 
-from plaincharts import Plain, filled, filled_atom, plain_comes_of, plain_fit, plain_premises
+from plaincharts import Plain, filled, filled_atom, plain_fit, plain_premises
 from plainly import all_heights, head_binding, plain_derivation
 from ringproofs.rounds import is_let_by
 from ringproofs.sayings import bindings, saying_variables

@@ -43,12 +43,20 @@ INTERFACE = {
     "stepped": {"is_stepped": ["defs", "chart", "places", "*", "known"], "stepped": ["defs", "chart", "*", "known"]},
     "straight": {"straight": ["defs", "chart", "*", "known"], "is_straight": ["chart_lines"]},
     "search": {"search": ["defs", "saying", "most", "*", "size"], "tries": ["defs", "saying", "done"]},
+    "shorter": {"shorter": ["defs", "chart", "*", "known"]},
+    "together": {"put_in": ["chart", "charts"]},
+    "shelf": {"Shelf": ["rules", "*", "most"]},
+    "deeds": {"do": ["shelf", "deeds"]},
+    "desk": {"answers": ["text"]},
 }
 OBJECTS = ("Definitions", "Shelf")
 LEFT_OUT = {"known": (), "size": 3}
 METHODS = {
     ("definitions", "Definitions"): {"tell": ["rule"], "rules": ["word"], "words": [], "terms": ["word"], "all_rules": [],
                                      "without": ["place"], "twin": [], "__eq__": None},
+    ("shelf", "Shelf"): {"tell": ["rule"], "untell": ["place"], "add": ["name", "chart"], "drop": ["name"], "undo": [], "names": [],
+                         "standing": [], "chart": ["name"], "saying": ["name"], "leans": ["name"], "definitions": [], "charts": [],
+                         "twin": [], "log": [], "is_open": [], "__len__": None},
 }
 
 LIBRARY = {"heapq", "math", "itertools", "collections"}

@@ -25,6 +25,20 @@ ABOUT_FORKS = ["q x0 x1 |- q x0 x1", "p x0, p x1 |- q x0 x1", "q x0 x1 |- p x0",
                "q x0 x1, q x1 x0 |- p x1"]
 
 
+def drawn_cases(many):
+    """Definitions, and right charts by them, drawn: about numbers, about forks, and by drawn rules."""
+    for seed in range(many):
+        draw = Random(seed)
+        defs, sayings = [(NUMBERS, ABOUT_NUMBERS), (FORKS, ABOUT_FORKS)][seed % 2]
+        saying = saying_in(sayings[seed // 2 % len(sayings)])
+        if seed % 4 == 3:
+            defs = drawn_definitions(seed)
+            saying = drawn_saying(draw, defs, [0, 1], 3, 2)
+        chart = drawn_chart(draw, defs, saying, 15)
+        if chart is not None:
+            yield defs, chart
+
+
 class Judgement(Case):
     def judge(self, defs, chart, laps):
         """That (a) is so of a right chart, held against the ways themselves; whether it's let by."""

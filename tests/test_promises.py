@@ -1,4 +1,4 @@
-"""The document's point 1, (b) to (d), by small charts and sayings gone through one by one."""
+"""The document's point 1, (b) to (g), by small charts, sayings and shelves gone through one by one."""
 
 import unittest
 from itertools import product
@@ -6,19 +6,25 @@ from itertools import product
 from helper import EVEN, NAT, Case, steps
 from plaincharts import filled_atom
 from plainwalks import plain_charts
-from ringproofs.charts import goals, lines
+from ringproofs.charts import goals, leaned, lines
 from ringproofs.charttexts import chart_in
+from ringproofs.deeds import do
 from ringproofs.deftexts import definitions_in
-from ringproofs.errors import NotLetBy, NoWorld
+from ringproofs.errors import NotLetBy, NoWorld, RingError
 from ringproofs.heights import is_derivation
 from ringproofs.rounds import is_let_by, judged
+from ringproofs.ruletexts import rule_in
 from ringproofs.sayingtexts import saying_in
 from ringproofs.search import search
+from ringproofs.shelf import Shelf
+from ringproofs.shorter import shorter
 from ringproofs.stepped import is_stepped, stepped
 from ringproofs.straight import is_straight, straight
+from ringproofs.together import put_in
 from ringproofs.trails import longest
 from ringproofs.walks import walked
 from ringproofs.worlds import bars, first_world, holds, worlds
+from test_shelf import all_of, call, stands_by
 
 SMALL = definitions_in(NAT + "\n" + EVEN)
 TURNS = definitions_in("a 0\na s(x0) if b x0\na x0 if a x0\nb x0 if a x0\nc x0 if a x0, b x0")
@@ -70,8 +76,11 @@ class Promises(Case):
                 let_by += 1
                 self.told(first_world(defs, chart[0], 4), None)
                 self.walks(defs, chart, 3)
+                told = shorter(defs, chart)
+                self.told((told[0], is_let_by(defs, told), leaned(told)), (chart[0], True, []))
             else:
                 self.assertRaises(NotLetBy, longest, defs, chart, 1)
+                self.assertRaises(NotLetBy, shorter, defs, chart)
             places = stepped(defs, chart)
             if places is not None:
                 by_steps += places != []
@@ -118,6 +127,46 @@ class Promises(Case):
                     self.told(search(defs, saying, len(found[1]) - 1)[0], "none")
                     self.walks(defs, found, 3)
         self.assertEqual(sorted(words), ["chart", "none", "world"])
+
+    def test_shelves_one_by_one(self):
+        # All rows of four of these deeds: rules by which charts fall, charts that lean on them, and what takes them back.
+        rules = [rule_in("n 0"), rule_in("n s(x0) if n x0")]
+        deeds = [("tell", rule_in("n s(x0)")), ("untell", 0), ("add", "a", chart_in("n x0 |- n s(x0)\nuse 1\nby")),
+                 ("add", "b", chart_in("n x0 |- n s(s(x0))\ncut n s(x0)\nlean a x0=x0\nlean a x0=s(x0)")), ("drop", "a"), ("undo",)]
+        refused = stood = 0
+        for row in product(deeds, repeat=4):
+            shelf, other = Shelf(rules), Shelf(rules)
+            told, refusal = [], None
+            try:
+                told = do(shelf, row)
+            except RingError as one:
+                refusal = one
+                refused += 1
+            ahead = shelf.log()[-1][1]
+            self.told(shelf.log(), [("in", 4), *[deed[0] for deed in row[:ahead]], ("out", ahead)])
+            self.told(shelf.is_open(), True)
+            alone = [call(other, deed) for deed in row[:ahead]]
+            if refusal is None:
+                self.told(told, alone)
+            else:
+                self.refused(type(refusal), refusal.what, call, other, row[ahead])
+            self.told(all_of(shelf)[:5], all_of(other)[:5])
+            stood += self.stands(shelf)
+        self.assertGreater(refused, 500)
+        self.assertGreater(stood, 100)
+
+    def stands(self, shelf):
+        """That what stands is let by, by the rules told by now, and put together too; how many stand."""
+        defs = shelf.definitions()
+        standing = shelf.standing()
+        self.told(standing, stands_by(defs, shelf.charts()))
+        for name in standing:
+            put = put_in(shelf.chart(name), shelf.charts())
+            self.told((put[0], leaned(put), is_let_by(defs, put)), (shelf.saying(name), [], True))
+            told = shorter(defs, put)
+            self.told((told[0], leaned(told), is_let_by(defs, told)), (shelf.saying(name), [], True))
+            self.walks(defs, put, 2)
+        return len(standing)
 
     def test_walks_of_great_terms(self):
         chart = chart_in("even x0 |- nat x0\nsplit 0\nuse 0\nuse 1\nsplit 0\nuse 1\nback 0 x0=x2")

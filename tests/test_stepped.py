@@ -3,16 +3,14 @@ from copy import deepcopy
 from random import Random
 
 from helper import NUMBERS, Case, odd_things
-from plaincharts import Plain, drawn_chart, drawn_machine, drawn_saying, machine
-from plainly import drawn_definitions
+from plaincharts import Plain, drawn_machine, machine
 from plainwalks import plain_all_places, plain_is_stepped
 from ringproofs.charttexts import chart_in
 from ringproofs.errors import BadChart
 from ringproofs.rounds import is_let_by
-from ringproofs.sayingtexts import saying_in
 from ringproofs.stepped import is_stepped, stepped
 from test_charts import EVEN_IS_NAT, LESS_THAN_NEXT, ODD_IS_NAT, PAIR
-from test_judgement import ABOUT_FORKS, ABOUT_NUMBERS, FORKS
+from test_judgement import drawn_cases
 from test_leaps import FOUR_GOALS, MACHINES
 from test_papers import KNOWN, LEANING, ONLY_TOGETHER, WRONG
 from test_rounds import NOT_LET_BY, TWICE
@@ -192,16 +190,8 @@ class Stepped(Case):
 
     def test_drawn_charts(self):
         found = 0
-        for seed in range(400):
-            draw = Random(seed)
-            defs, sayings = [(NUMBERS, ABOUT_NUMBERS), (FORKS, ABOUT_FORKS)][seed % 2]
-            saying = saying_in(sayings[seed // 2 % len(sayings)])
-            if seed % 4 == 3:
-                defs = drawn_definitions(seed)
-                saying = drawn_saying(draw, defs, [0, 1], 3, 2)
-            chart = drawn_chart(draw, defs, saying, 15)
-            if chart is not None:
-                found += self.judge(defs, chart)
+        for defs, chart in drawn_cases(400):
+            found += self.judge(defs, chart)
         self.assertGreater(found, 10)
 
     def test_refused(self):

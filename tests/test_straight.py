@@ -3,17 +3,15 @@ from copy import deepcopy
 from random import Random
 
 from helper import NUMBERS, Case, odd_things
-from plaincharts import drawn_chart, drawn_machine, drawn_saying
-from plainly import drawn_definitions
+from plaincharts import drawn_machine
 from plainwalks import plain_straight
 from ringproofs.charts import lines
 from ringproofs.charttexts import chart_in, chart_text
 from ringproofs.errors import BadChart, TooLong
 from ringproofs.rounds import is_let_by
-from ringproofs.sayingtexts import saying_in
 from ringproofs.straight import is_straight, straight
 from test_charts import EVEN_IS_NAT, LESS_THAN_NEXT, ODD_IS_NAT, PAIR
-from test_judgement import ABOUT_FORKS, ABOUT_NUMBERS, FORKS
+from test_judgement import drawn_cases
 from test_leaps import MACHINES
 from test_papers import KNOWN, LEANING, WRONG
 
@@ -129,16 +127,8 @@ class Straight(Case):
 
     def test_drawn_charts(self):
         crooked = 0
-        for seed in range(500):
-            draw = Random(seed)
-            defs, sayings = [(NUMBERS, ABOUT_NUMBERS), (FORKS, ABOUT_FORKS)][seed % 2]
-            saying = saying_in(sayings[seed // 2 % len(sayings)])
-            if seed % 4 == 3:
-                defs = drawn_definitions(seed)
-                saying = drawn_saying(draw, defs, [0, 1], 3, 2)
-            chart = drawn_chart(draw, defs, saying, 15)
-            if chart is not None:
-                crooked += not self.judge(defs, chart)
+        for defs, chart in drawn_cases(500):
+            crooked += not self.judge(defs, chart)
         self.assertGreater(crooked, 30)
 
     def test_machines(self):

@@ -1,21 +1,18 @@
 import unittest
 from copy import deepcopy
-from random import Random
 
 from helper import NAT, NUMBERS, Case, odd_things, steps
-from plaincharts import drawn_chart
 from ringproofs.charttexts import chart_in
 from ringproofs.deftexts import definitions_in
 from ringproofs.errors import BadChart, Leans, NotLetBy, NoWorld, RingError
 from ringproofs.rounds import is_let_by, shows_round
 from ringproofs.ruletexts import atom_in, rule_in
-from ringproofs.sayingtexts import saying_in
 from ringproofs.termtexts import binding_in
 from ringproofs.trails import longest, shows_trail
 from ringproofs.walks import walked
 from ringproofs.worlds import worlds
 from test_charts import EVEN_IS_NAT, LESS_THAN_NEXT, ODD_IS_NAT, PAIR
-from test_judgement import ABOUT_FORKS, ABOUT_NUMBERS, FORKS
+from test_judgement import drawn_cases
 from test_rounds import NOT_LET_BY
 from test_walks import ALL_THREES, CUT, THREES
 
@@ -139,10 +136,8 @@ class Longest(Case):
 
     def test_as_worded(self):
         found = 0
-        for seed in range(300):
-            defs, sayings = [(NUMBERS, ABOUT_NUMBERS), (FORKS, ABOUT_FORKS)][seed % 2]
-            chart = drawn_chart(Random(seed), defs, saying_in(sayings[seed // 2 % len(sayings)]), 15)
-            if chart is None or not is_let_by(defs, chart):
+        for defs, chart in drawn_cases(400):
+            if not is_let_by(defs, chart):
                 continue
             best = None
             for world in worlds(chart[0], 3):

@@ -1,10 +1,9 @@
 import unittest
 from copy import deepcopy
-from random import Random
 
 from helper import EVEN, NAT, NUMBERS, Case, steps
-from plaincharts import drawn_chart, drawn_saying, filled_atom
-from plainly import all_heights, drawn_definitions
+from plaincharts import filled_atom
+from plainly import all_heights
 from plainwalks import Walk
 from ringproofs.charttexts import chart_in
 from ringproofs.definitions import Definitions
@@ -13,12 +12,11 @@ from ringproofs.errors import BadChart, Leans, NotLetBy, NoWorld, RingError
 from ringproofs.heights import derivation, is_derivation
 from ringproofs.rounds import is_let_by, shows_round
 from ringproofs.ruletexts import atom_in, rule_in
-from ringproofs.sayingtexts import saying_in
 from ringproofs.termtexts import binding_in
 from ringproofs.walks import walked
 from ringproofs.worlds import worlds
 from test_charts import EVEN_IS_NAT, LESS_THAN_NEXT, ODD_IS_NAT, PAIR
-from test_judgement import ABOUT_FORKS, ABOUT_NUMBERS, FORKS
+from test_judgement import drawn_cases
 from test_leaps import MACHINES
 from test_papers import ONLY_TOGETHER
 from test_rounds import NOT_LET_BY
@@ -130,15 +128,9 @@ class Walked(Walks):
 
     def test_as_worded(self):
         walks = 0
-        for seed in range(500):
-            draw = Random(seed)
-            defs, sayings = [(NUMBERS, ABOUT_NUMBERS), (FORKS, ABOUT_FORKS)][seed % 2]
-            saying = saying_in(sayings[seed // 2 % len(sayings)])
-            if seed % 4 == 3:
-                defs = drawn_definitions(seed)
-                saying = drawn_saying(draw, defs, [0, 1], 3, 2)
-            chart = drawn_chart(draw, defs, saying, 15)
-            if chart is None or not is_let_by(defs, chart):
+        for defs, chart in drawn_cases(500):
+            saying = chart[0]
+            if not is_let_by(defs, chart):
                 continue
             for world in worlds(saying, 2):
                 wrong = [filled_atom(hyp, dict(world)) for hyp in saying[0]]
