@@ -42,7 +42,8 @@ def _put(steps, made):
             saying, inner = made[step[1]]
             found.append(("as", saying, step[2]))
             first = len(found)
-            found.extend([_moved(each, list(range(first, first + len(inner))), first) for each in inner])
+            places = list(range(first, first + len(inner)))
+            found.extend([_moved(each, places, first) for each in inner])
         else:
             found.append(_moved(step, numbers, behind - len(steps)))
     return tuple(found)

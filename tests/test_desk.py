@@ -208,8 +208,8 @@ class Rows(Case):
                  "seek", "walk", "short", "steps", "bare")
 
     def test_each_row_spoilt(self):
-        self.bad("rule nat", "rule nat s(0)", "rule nat x1", "rule nat 0 if", "rule nat 0 if nat 0", "rule Nat 0", "rule nat 0,", "rule nat x0 if odd x1",
-                 "rule if 0", "rule toolong 0", "unrule one", "unrule x0", "unrule 0 0", "drop", "drop if", "drop En", "drop en on", "drop e1",
+        self.bad("rule nat", "rule nat s(0)", "rule nat x1", "rule nat 0 if", "rule nat 0 if nat 0", "rule Nat 0", "rule nat 0,",
+                 "rule nat x0 if odd x1", "rule if 0", "rule toolong 0", "unrule one", "unrule x0", "unrule 0 0", "drop", "drop if", "drop En", "drop en on", "drop e1",
                  "drop abcdefg", "stands en on", "stands 0", "short EN", "short en x0=0", "steps en 0", "bare -", "bare en 1", "walk en",
                  "walk en x0", "walk en x0=", "walk en x0=0,", "walk en x0=0 x0=0", "walk en x1=0 x0=0", "walk if x0=0", "walk en -  ", "walk x0=0",
                  "walk en x100=0", "walk en s(0)", "walk - en")

@@ -10,7 +10,7 @@ from ringproofs.charts import goals, leaned, lines
 from ringproofs.charttexts import chart_in
 from ringproofs.deeds import do
 from ringproofs.deftexts import definitions_in
-from ringproofs.errors import NotLetBy, NoWorld, RingError
+from ringproofs.errors import BadChart, NotLetBy, NoWorld, RingError
 from ringproofs.heights import is_derivation
 from ringproofs.rounds import is_let_by, judged
 from ringproofs.ruletexts import rule_in
@@ -21,9 +21,10 @@ from ringproofs.shorter import shorter
 from ringproofs.stepped import is_stepped, stepped
 from ringproofs.straight import is_straight, straight
 from ringproofs.together import put_in
-from ringproofs.trails import longest
+from ringproofs.trails import longest, shows_trail
 from ringproofs.walks import walked
 from ringproofs.worlds import bars, first_world, holds, worlds
+from test_charts import EVEN_IS_NAT
 from test_shelf import all_of, call, stands_by
 
 SMALL = definitions_in(NAT + "\n" + EVEN)
@@ -168,13 +169,22 @@ class Promises(Case):
             self.walks(defs, put, 2)
         return len(standing)
 
+    def test_rules_told_behind(self):
+        defs = definitions_in(NAT + "\n" + EVEN)
+        world = ((0, steps(2)),)
+        calls = [(walked, world), (longest, 3), (shows_trail, world, []), (stepped,), (is_stepped, []), (straight,), (shorter,)]
+        first = [call(defs, EVEN_IS_NAT, *more) for call, *more in calls]
+        self.told([call(defs, EVEN_IS_NAT, *more) for call, *more in calls], first)
+        defs.tell(rule_in("even s(x0)"))
+        for call, *more in calls:
+            self.refused(BadChart, 6, call, defs, EVEN_IS_NAT, *more)
+
     def test_walks_of_great_terms(self):
-        chart = chart_in("even x0 |- nat x0\nsplit 0\nuse 0\nuse 1\nsplit 0\nuse 1\nback 0 x0=x2")
         for many in range(7):
             if many % 2:
-                self.refused(NoWorld, ("even", steps(many)), walked, SMALL, chart, ((0, steps(many)),))
+                self.refused(NoWorld, ("even", steps(many)), walked, SMALL, EVEN_IS_NAT, ((0, steps(many)),))
             else:
-                self.assertEqual(len(walked(SMALL, chart, ((0, steps(many)),))[0]), 5 * many // 2 + 2)
+                self.assertEqual(len(walked(SMALL, EVEN_IS_NAT, ((0, steps(many)),))[0]), 5 * many // 2 + 2)
 
 
 if __name__ == "__main__":
